@@ -196,12 +196,27 @@ func TestSpoiled(t *testing.T) {
 		}
 		order, ok := linear.Find(blocks, w.l)
 		holdFound(t, blocks, w.l, order, ok, expectFind(blocks, w.l))
+		holdConsequences(t, blocks, w.l, ok)
 		if ok {
 			found++
 		}
 	}
 	if found < times/4 || found > times*2/3 {
 		t.Errorf("%d of several blocks", found)
+	}
+}
+
+// holdConsequences expects of a history that it is linearizable exactly if its restrictions are, and that its beginnings are if it is.
+func holdConsequences(t *testing.T, blocks []string, l []api.Event, found bool) {
+	t.Helper()
+	if expectHistory(len(blocks), l) == api.OK {
+		holdParts(t, blocks, l, found)
+	}
+	below := true
+	for n := range len(l) + 1 {
+		_, ok := linear.Find(blocks, l[:n])
+		holdBelow(t, l[:n], below, ok)
+		below = ok
 	}
 }
 
